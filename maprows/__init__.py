@@ -1,0 +1,1 @@
+"""Maprows: what holds for all rows of linear maps."""

@@ -1,0 +1,209 @@
+"""What several files of tests use."""
+
+import itertools
+import unittest
+
+from maprows.errors import RowError
+from maprows.spaces import Space
+
+PRIMES = (2, 3, 5, 7, 11, 13)
+GREAT = 10 ** 30 - 1
+
+
+class RowTest(unittest.TestCase):
+    """Tests with the questions that are asked again and again."""
+
+    def same(self, found, expected):
+        """Equal, and of the same kinds throughout: (1,) is not [1], and True is not 1."""
+        self.assertEqual(repr(found), repr(expected))
+
+    def raised(self, call, *args, **named):
+        """The exception of the package that a call raises."""
+        with self.assertRaises(RowError) as caught:
+            call(*args, **named)
+        return caught.exception
+
+    def refuses(self, error, kept, call, *args, **named):
+        """A call raises just this exception, which keeps the very value."""
+        found = self.raised(call, *args, **named)
+        self.assertIs(type(found), error, (args, named))
+        self.assertIs(found.value, kept)
+
+    def refuses_plainly(self, error, call, *args, **named):
+        """A call raises just this exception, which has no value to keep."""
+        self.assertIs(type(self.raised(call, *args, **named)), error, (args, named))
+
+    def refuses_in_order(self, call, good, order):
+        """Each wrong argument is refused, alone and together with all that are checked later.
+
+        `good` has right arguments by their names; `order` has, in the order in which they are
+        checked, the name of an argument, its exception and wrong values for it.
+        """
+        call(**good)
+        for at, (name, error, bads) in enumerate(order):
+            for bad in bads:
+                with self.subTest(name=name, bad=bad):
+                    self.refuses(error, bad, call, **{**good, name: bad})
+                    for worse in later_wrongs(order[at + 1:]):
+                        self.refuses(error, bad, call, **{**good, name: bad, **worse})
+
+    def keeps_arguments(self, call, *args):
+        """A call leaves lists and what is in them as they were, and gives equal results again."""
+        before = repr(args)
+        first = call(*args)
+        self.assertEqual(repr(args), before)
+        self.assertEqual(call(*args), first)
+        return first
+
+
+def later_wrongs(order):
+    """Dicts of wrong arguments: each one alone, and all together."""
+    wrongs = [{name: bad} for name, _, bads in order for bad in bads]
+    if len(order) > 1:
+        most = max(len(bads) for _, _, bads in order)
+        wrongs += [{name: bads[at % len(bads)] for name, _, bads in order} for at in range(most)]
+    return wrongs
+
+
+def things():
+    """Values of the kinds that are neither integers nor lists."""
+    return [None, True, False, "", "2", "123", {}, {0: 1}, {"a": [1]}, {(0, 1): 2}, Space(5, 2, [(1, 2)])]
+
+
+def wrong_primes():
+    return things() + [0, 1, -1, -2, -5, 4, 6, 8, 9, 10, 12, 14, 15, 17, 19, GREAT, -GREAT, [], [5], (5,), (2, 3)]
+
+
+def wrong_sizes():
+    return things() + [-1, -12, 13, 14, 100, GREAT, -GREAT, [], [3], (), (3,)]
+
+
+def wrong_items():
+    """What may stand in a list of vectors, or in a vector, where no vector and no integer may stand."""
+    return things() + [[None], (True,), ["1"], [[1]], ((1,),), [{}]]
+
+
+def wrong_vectors(length):
+    """What is no vector of a length, though some are vectors of other lengths."""
+    wrong = things() + [0, 3, GREAT, {at: at for at in range(length)}, "1" * length]
+    wrong += [[1] * other for other in (0, 1, 2, 3, 4, 11, 12, 13) if other != length]
+    wrong += [(1,) * (length + 1), [(1,) * length] * (1 if length != 1 else 2)]
+    for item in wrong_items():
+        if length > 0:
+            wrong += [[1] * (length - 1) + [item], (item,) + (1,) * (length - 1)]
+    return wrong
+
+
+def no_vectors(most=None):
+    """What is no list of integers, or, with a number told, a longer one."""
+    wrong = things() + [0, 3, GREAT, [[1]], [(1, 2)], ((),)]
+    for item in things():
+        wrong += [[1, item], (item, 1)]
+    return wrong if most is None else wrong + [[1] * (most + 1), (0,) * 20]
+
+
+def wrong_matrices(height, width):
+    """What is no matrix of a height and a width; of a height None only what is none of any height."""
+    wrong = things() + [0, 3, GREAT, [width], "1" * width, [[1] * (width + 1)], [(1,) * width, (1,) * (width + 2)]]
+    rows = 2 if height is None else height
+    for item in things() + [3, [[1] * width], "1" * width]:
+        if rows > 0:
+            wrong += [[(1,) * width] * (rows - 1) + [item], (item,) + ([1] * width,) * (rows - 1)]
+    for item in wrong_items():
+        if rows > 0 and width > 0:
+            wrong += [[(1,) * width] * (rows - 1) + [[1] * (width - 1) + [item]]]
+            wrong += [[[item] + [1] * (width - 1)] + [(1,) * width] * (rows - 1)]
+    if rows > 0 and width > 0:
+        wrong += [[(1,) * (width - 1)] * rows, [[]] + [(1,) * width] * (rows - 1)]
+        wrong += [{at: (1,) * width for at in range(rows)}]
+    if height is not None:
+        wrong += [[(1,) * width] * other for other in range(14) if other != height]
+    return wrong
+
+
+def all_vectors(prime, length):
+    return list(itertools.product(range(prime), repeat=length))
+
+
+def all_matrices(prime, height, width):
+    return [list(rows) for rows in itertools.product(all_vectors(prime, width), repeat=height)]
+
+
+def lead(prime, vector, matrix, width):
+    """Where a matrix leads a vector, straight from the definition."""
+    total = [0] * width
+    for at, row in enumerate(matrix):
+        for column in range(width):
+            total[column] += vector[at] * row[column]
+    return tuple(item % prime for item in total)
+
+
+def span(prime, length, vectors):
+    """The set of all sums of multiples of vectors, gone through one by one."""
+    return {
+        lead(prime, factors, vectors, length)
+        for factors in itertools.product(range(prime), repeat=len(vectors))
+    }
+
+
+def all_spaces(prime, length):
+    """All spaces of a length, each with the set of its vectors."""
+    found = {}
+    for many in range(length + 1):
+        for vectors in itertools.combinations(all_vectors(prime, length), many):
+            found.setdefault(frozenset(span(prime, length, vectors)), Space(prime, length, vectors))
+    return [(space, vectors) for vectors, space in found.items()]
+
+
+def all_within(prime, space):
+    """The set of those vectors that a space tells to be in it."""
+    return {vector for vector in all_vectors(prime, space.length) if vector in space}
+
+
+def sequence(seed):
+    """An endless row of numbers without much of a pattern, the same for each seed."""
+    state = seed
+    while True:
+        state = (state * 6364136223846793005 + 1442695040888963407) % 2 ** 64
+        yield state // 2 ** 33
+
+
+def some_matrix(numbers, height, width, low=0, high=12):
+    return [tuple(low + next(numbers) % (high - low + 1) for _ in range(width)) for _ in range(height)]
+
+
+def low_rank(numbers, height, width, rank):
+    """A matrix of a rank of at most `rank`."""
+    tall, wide = some_matrix(numbers, height, rank), some_matrix(numbers, rank, width)
+    return [tuple(sum(a * b for a, b in zip(row, column)) for column in zip(*wide)) or (0,) * width for row in tall]
+
+
+def units(size):
+    return [tuple(int(row == column) for column in range(size)) for row in range(size)]
+
+
+def check_examples(test, text):
+    """Each line behind >>> gives what stands below it: nothing, a value, or an exception with its values."""
+    names = {}
+    lines = [line.strip() for line in text.strip().splitlines()]
+    tried = 0
+    for at, line in enumerate(lines):
+        if line.startswith(">>> "):
+            below = lines[at + 1] if at + 1 < len(lines) else ">>> "
+            check_example(test, names, line[4:], None if below.startswith(">>> ") else below)
+            tried += 1
+    return tried
+
+
+def check_example(test, names, code, expected):
+    with test.subTest(code=code):
+        if expected is None:
+            exec(code, names)
+        elif expected.startswith("raises "):
+            name, _, values = expected[len("raises "):].partition("(")
+            found = test.raised(eval, code, names)
+            test.assertEqual(type(found).__name__, name)
+            kept = [getattr(found, attribute) for attribute in ("value", "bar", "name") if hasattr(found, attribute)]
+            test.same(kept, eval("[" + values[:-1] + "]"))
+        else:
+            test.assertEqual(repr(eval(code, names)), expected)
