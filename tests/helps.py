@@ -4,7 +4,9 @@ import itertools
 import unittest
 
 from maprows.errors import RowError
+from maprows.rows import Row
 from maprows.spaces import Space
+from maprows.words import Word
 
 PRIMES = (2, 3, 5, 7, 11, 13)
 GREAT = 10 ** 30 - 1
@@ -67,7 +69,9 @@ def later_wrongs(order):
 
 def things():
     """Values of the kinds that are neither integers nor lists."""
-    return [None, True, False, "", "2", "123", {}, {0: 1}, {"a": [1]}, {(0, 1): 2}, Space(5, 2, [(1, 2)])]
+    word = Word.none(1) + Word.whole(0).right()
+    objects = [Space(5, 2, [(1, 2)]), Row(">", 5, [1, 2], [[(1, 2)]]), Word.whole(0), word]
+    return [None, True, False, "", "2", "123", {}, {0: 1}, {"a": [1]}, {(0, 1): 2}] + objects
 
 
 def wrong_primes():
@@ -119,6 +123,137 @@ def wrong_matrices(height, width):
     if height is not None:
         wrong += [[(1,) * width] * other for other in range(14) if other != height]
     return wrong
+
+
+def wrong_patterns():
+    wrong = [thing for thing in things() if thing != ""]
+    wrong += [0, 1, 6, GREAT, [], [">"], (">",), ([">"], "<"), ">>>>>>>", "<" * 7, "<>" * 50, "-", "=", "a", " ", "\n"]
+    return wrong + [" >", "> ", "> <", ">\n", "\n<", ">-<", ">=", "><a", ">>>>>>a", "right", ">,<"]
+
+
+def wrong_places(low, high):
+    """What is no integer from one to another."""
+    return things() + [low - 1, high + 1, low - 2, high + 100, GREAT, -GREAT, [], [low], (low,), str(low), [low, high]]
+
+
+def wrong_bars(k):
+    """What is no bar of a pattern with k arrows."""
+    wrong = things() + [0, 1, GREAT, [], (), [0, 0], [0, k], (0,), (k,), (0, 0, 0), (0, k, 0), ((0, 0),), [(0, 0)]]
+    wrong += [(1, 0), (k, k - 1), (-1, 0), (-1, k), (0, -1), (-1, -1), (0, k + 1), (k + 1, k + 1), (k + 1, k)]
+    wrong += [(0, GREAT), (-GREAT, 0), (False, 0), (0, False), (True, 1), (0, True), (None, 0), (0, None), ("0", "0")]
+    return wrong + [("0", 0), "00", ([0], 0), (0, [0]), ((0,), 0), ({}, 0), (0, Space(2, 1)), ((0, 0), (0, 0))]
+
+
+def wrong_numbers(k):
+    """What is no dict of numbers for a pattern with k arrows."""
+    wrong = [thing for thing in things() if thing != {} and (k == 0 or thing != {(0, 1): 2})]
+    wrong += [0, 1, GREAT, [], (), [((0, 0), 1)], (((0, 0), 1),), [(0, 0)]]
+    wrong += [{bar: 1} for bar in wrong_bars(k) if is_key(bar)]
+    wrong += [{bar: 0} for bar in ((0, k + 1), (-1, 0), (True, 1), (1, 0), "00", 0, (0,), (0, 0, 0))]
+    wrong += [{(0, 0): number} for number in things() + [-1, 7, GREAT, -GREAT, [], [1], (1,), "1"]]
+    wrong += [{(0, 0): 1, (0, k): True}, {(0, k): 1, (k + 1, k + 1): 1}, {(0, 0): 1, "a": 1}, {(0, 0): 0, (k, k): -1}]
+    return wrong
+
+
+def is_key(value):
+    """Whether a value may be a key of the dicts that are handed in."""
+    if isinstance(value, tuple):
+        return all(isinstance(item, int) for item in value)
+    return isinstance(value, (int, str)) and not isinstance(value, bool)
+
+
+def wrong_size_lists(k):
+    """What is no list of a size for each place of a pattern with k arrows."""
+    wrong = things() + [0, 1, 6, GREAT, "1" * (k + 1), {at: 1 for at in range(k + 1)}, [[1] * (k + 1)]]
+    wrong += [[1] * k, (1,) * k, [1] * (k + 2), (1,) * (k + 2), [1] * 100]
+    for item in things() + [-1, 7, GREAT, -GREAT, [1], (1,), "1"]:
+        wrong += [[1] * k + [item], (item,) + (1,) * k]
+    return wrong
+
+
+def all_patterns(most, least=0):
+    return ["".join(arrows) for k in range(least, most + 1) for arrows in itertools.product("<>", repeat=k)]
+
+
+def all_bars(k):
+    return [(first, last) for first in range(k + 1) for last in range(first, k + 1)]
+
+
+def ends_of(pattern, index):
+    """The place from which an arrow leads, and the place to which it leads."""
+    return (index, index + 1) if pattern[index] == ">" else (index + 1, index)
+
+
+def some_row(numbers, pattern, prime, sizes, ranks=None):
+    """A row with items without much of a pattern, and with maps of low ranks where a rank is told."""
+    maps = []
+    for index in range(len(pattern)):
+        start, goal = ends_of(pattern, index)
+        if ranks is None:
+            maps.append(some_matrix(numbers, sizes[start], sizes[goal], -20, 20))
+        else:
+            maps.append(low_rank(numbers, sizes[start], sizes[goal], ranks))
+    return Row(pattern, prime, sizes, maps)
+
+
+def some_rows(seed, many, arrows, most, primes=PRIMES):
+    """Rows of many patterns, primes and sizes, of full and of low ranks."""
+    numbers = sequence(seed)
+    for at in range(many):
+        k = next(numbers) % (arrows + 1)
+        pattern = "".join("<>"[next(numbers) % 2] for _ in range(k))
+        sizes = [next(numbers) % (most + 1) for _ in range(k + 1)]
+        ranks = None if at % 3 == 0 else next(numbers) % (most + 1)
+        yield some_row(numbers, pattern, primes[next(numbers) % len(primes)], sizes, ranks)
+
+
+def some_word(numbers, place, leaves, steps, most=6):
+    """A word of a place with a number of signs 0 and 1, and of right and left, that reaches no place above `most`."""
+    if leaves == 1 and (steps == 0 or most == 0):
+        return (Word.none if next(numbers) % 4 == 0 else Word.whole)(place)
+    if most > 0 and steps > 0 and (leaves == 1 or next(numbers) % 2 == 0):
+        near = [other for other in (place - 1, place + 1) if 0 <= other <= most]
+        other = near[next(numbers) % len(near)]
+        part = some_word(numbers, other, leaves, steps - 1, most)
+        return part.right() if other < place else part.left()
+    first, taken = 1 + next(numbers) % (leaves - 1), next(numbers) % (steps + 1)
+    one = some_word(numbers, place, first, taken, most)
+    other = some_word(numbers, place, leaves - first, steps - taken, most)
+    return one + other if next(numbers) % 2 == 0 else one & other
+
+
+def shape(word):
+    """What a word is made of, as tuples of its sign, its place and the shapes of its parts."""
+    return (word.sign, word.place, tuple(shape(part) for part in word.parts))
+
+
+def small_words(place, leaves, steps, most=6):
+    """All words of a place with at most so many signs 0 and 1, and with at most so many of right and left."""
+    return [word for many in range(1, leaves + 1) for taken in range(steps + 1)
+            for word in words_of(place, many, taken, most)]
+
+
+def words_of(place, leaves, steps, most):
+    found = [Word.none(place), Word.whole(place)] if (leaves, steps) == (1, 0) else []
+    if steps > 0 and place > 0:
+        found += [word.right() for word in words_of(place - 1, leaves, steps - 1, most)]
+    if steps > 0 and place < most:
+        found += [word.left() for word in words_of(place + 1, leaves, steps - 1, most)]
+    for first in range(1, leaves):
+        for taken in range(steps + 1):
+            for one in words_of(place, first, taken, most):
+                for other in words_of(place, leaves - first, steps - taken, most):
+                    found += [one + other, one & other]
+    return found
+
+
+def most_open(text):
+    """The greatest number of brackets that are open at one place of a text."""
+    opened = most = 0
+    for sign in text:
+        opened += (sign == "(") - (sign == ")")
+        most = max(most, opened)
+    return most
 
 
 def all_vectors(prime, length):

@@ -29,6 +29,58 @@ SPACES = """
     raises InvalidPrime(4)
 """
 
+ROWS = """
+    >>> from maprows.rows import Row, bar_row, bars, read_row, row_with
+    >>> row = Row("><", 5, [2, 1, 1], [[(1,), (4,)], [(7,)]])
+    >>> [bars(">"), row.text(), row.matrix(1), len(row), read_row("5: 2 > 1 < 1; 1, 4; 2") == row]
+    [[(0, 0), (0, 1), (1, 1)], '5: 2 > 1 < 1; 1, 4; 2', [(2,)], 3, True]
+    >>> [row.part(1, 2).text(), row.turned().text(), row.dual().text(), (row + row).sizes]
+    ['5: 1 < 1; 2', '5: 1 > 1 < 2; 2; 1, 4', '5: 2 < 1 > 1; 1 4; 2', (4, 2, 2)]
+    >>> [bar_row("><", 3, (1, 2)).text(), row_with(">", 2, {(0, 1): 1, (0, 0): 1}).text()]
+    ['3: 0 > 1 < 1; -; 1', '2: 2 > 1; 0, 1']
+    >>> Row(">", 5, [1, 2], [[(1,)]])
+    raises InvalidMatrix([(1,)])
+"""
+
+WORDS = """
+    >>> from maprows.rows import Row
+    >>> from maprows.words import Word, carried, value
+    >>> word = Word.whole(0).right() & Word.whole(2).left()
+    >>> [word.text(), word.place, word.reach, len(word), word.dual().text(), word.turned(3).text(), Word.read("0@1 + (0@1 + 1@1)").sign]
+    ['right(1@0) & left(1@2)', 1, (0, 2), 2, 'right(0@0) + left(0@2)', 'left(1@3) & right(1@1)', '+']
+    >>> row = Row("><", 5, [1, 2, 1], [[(1, 1)], [(2, 2)]])
+    >>> [value(word, row).basis(), value(carried(Word.none(1), 0), row).basis(), len(value(Word.read("left(right(1@0))"), row)), carried(Word.none(0), 2).text()]
+    [[(1, 1)], [], 1, 'right(right(0@0))']
+    >>> Word.read("right(1@6)")
+    raises InvalidText('right(1@6)')
+"""
+
+THREADS = """
+    >>> from maprows.rows import Row
+    >>> from maprows.threads import is_threads, numbers, threads
+    >>> row = Row("><", 5, (1, 2, 1), [[(1, 2)], [(2, 4)]])
+    >>> {bar: number for bar, number in numbers(row).items() if number > 0}
+    {(0, 2): 1, (1, 1): 1}
+    >>> [[bar for bar, thread in threads(row)], is_threads(row, threads(row)), is_threads(row, [((0, 2), [(1,), (1, 2), (3,)]), ((1, 1), [(0, 1)])])]
+    [[(0, 2), (1, 1)], True, True]
+    >>> [is_threads(row, [((0, 2), [(1,), (1, 2), (3,)]), ((1, 1), [(2, 4)])]), is_threads(row, None)]
+    [False, False]
+"""
+
+PLAIN = """
+    >>> from maprows.plain import births, ends, marks, nth_plain, parting, plain, plain_count, plain_number, same, stair, within
+    >>> from maprows.words import Word
+    >>> one, other = Word.read("left(right(1@0) & left(1@2))"), Word.read("1@0 & left(left(1@2))")
+    >>> [same("><", one, other), within("><", other, one), marks("><", one)[(0, 1)], marks("><", one)[(0, 2)], marks("><", one)[(0, 0)]]
+    [True, True, 0, 1, 1]
+    >>> [parting("><", one, Word.whole(0)), parting("<<", one, other), births("><>", 2), ends("><>", 1), plain_count("><>><<", 3)]
+    [(0, 1), None, [2, 0, 1], [2, 3, 1], 70]
+    >>> [stair("><", one), plain("><", one).text(), plain_number("><", one), nth_plain("><", 0, 2).text(), nth_plain(">", 1, 1).text()]
+    [(2,), 'left(left(1@2))', 2, 'left(left(1@2))', 'right(1@0)']
+    >>> nth_plain(">", 1, 3)
+    raises InvalidNumber(3)
+"""
+
 
 class Examples(RowTest):
 
@@ -37,6 +89,18 @@ class Examples(RowTest):
 
     def test_spaces(self):
         self.assertEqual(check_examples(self, SPACES), 6)
+
+    def test_rows(self):
+        self.assertEqual(check_examples(self, ROWS), 6)
+
+    def test_words(self):
+        self.assertEqual(check_examples(self, WORDS), 7)
+
+    def test_threads(self):
+        self.assertEqual(check_examples(self, THREADS), 6)
+
+    def test_plain(self):
+        self.assertEqual(check_examples(self, PLAIN), 7)
 
 
 if __name__ == "__main__":
