@@ -2,7 +2,15 @@
 
 from maprows.errors import InvalidMatrix, InvalidPrime, InvalidVector, NoInverse
 
-PRIMES = (2, 3, 5, 7, 11, 13)
+# For each prime the integers whose products with 0, 1, 2 and so on are 1 modulo it; 0 stands where there is none.
+INVERSES = {
+    2: (0, 1),
+    3: (0, 1, 2),
+    5: (0, 1, 3, 2, 4),
+    7: (0, 1, 4, 5, 2, 3, 6),
+    11: (0, 1, 6, 4, 3, 9, 2, 8, 7, 5, 10),
+    13: (0, 1, 7, 9, 10, 8, 11, 2, 5, 3, 4, 6, 12),
+}
 
 
 def is_number(value):
@@ -22,7 +30,7 @@ def is_integer(value, low=None, high=None):
 
 def is_prime(value):
     """Whether a value is one of the primes with which the package calculates."""
-    return is_number(value) and value in PRIMES
+    return is_number(value) and value in INVERSES
 
 
 def check_prime(prime):
@@ -36,7 +44,7 @@ def inverse(number, prime):
     check_prime(prime)
     if not is_number(number) or number % prime == 0:
         raise NoInverse(number)
-    return [factor for factor in range(1, prime) if factor * number % prime == 1][0]
+    return INVERSES[prime][number % prime]
 
 
 def is_list(value):
@@ -46,7 +54,10 @@ def is_list(value):
 
 def is_vector(value, length):
     """Whether a value is a vector of a length."""
-    return is_list(value) and len(value) == length and all([is_number(item) for item in value])
+    # What is_number asks is written out, since it is asked of each item of each matrix.
+    return is_list(value) and len(value) == length and all([
+        isinstance(item, int) and not isinstance(item, bool) for item in value
+    ])
 
 
 def is_matrix(value, height, width):
@@ -61,10 +72,11 @@ def has_width(value, width):
 
 def mixed(prime, factors, rows, width):
     """The sum of rows of a width, each times its factor, modulo the prime."""
-    return tuple([
-        sum([factor * row[column] for factor, row in zip(factors, rows)]) % prime
-        for column in range(width)
-    ])
+    total = [0] * width
+    for factor, row in zip(factors, rows):
+        if factor != 0:
+            total = [item + factor * more for item, more in zip(total, row)]
+    return tuple([item % prime for item in total])
 
 
 def led(prime, vector, matrix, width):

@@ -1,7 +1,8 @@
 """Spaces of vectors modulo a prime, held by their reduced bases."""
 
+from maprows.bases import Reduced, lead_of, outside, reduced, relations, rest_of, settled_factors, widened
 from maprows.errors import InvalidMatrix, InvalidSize, InvalidVector, NotWithin, UnlikeSpaces
-from maprows.rests import check_prime, has_width, inverse, is_integer, is_list, is_matrix, is_vector, joined, mixed
+from maprows.rests import check_prime, has_width, is_integer, is_list, is_matrix, is_vector, mixed
 
 # No vector of a space is longer, and no matrix that is taken back or apart is higher.
 MOST = 12
@@ -13,13 +14,9 @@ class Space:
     def __init__(self, prime, length, vectors=()):
         check_prime(prime)
         _check_size(length)
-        if not is_list(vectors):
-            raise InvalidVector(vectors)
-        for vector in vectors:
-            _check_vector(vector, length)
         self._prime = prime
         self._length = length
-        self._rows = tuple(_reduced(prime, vectors))
+        self._basis = vectors.pairs if isinstance(vectors, Reduced) else _reduced(prime, length, vectors)
 
     @classmethod
     def nothing(cls, prime, length):
@@ -31,7 +28,7 @@ class Space:
         """The space of all vectors of a length."""
         check_prime(prime)
         _check_size(length)
-        return cls(prime, length, _units(length))
+        return cls(prime, length, Reduced(tuple(enumerate(_units(length)))))
 
     @property
     def prime(self):
@@ -45,53 +42,56 @@ class Space:
 
     def basis(self):
         """The list of the vectors of the reduced basis."""
-        return list(self._rows)
+        return [row for _, row in self._basis]
 
     def __len__(self):
-        return len(self._rows)
+        return len(self._basis)
 
     def __eq__(self, other):
         return (
             isinstance(other, Space) and self._prime == other._prime
-            and self._length == other._length and self._rows == other._rows
+            and self._length == other._length and self._basis == other._basis
         )
 
     def __contains__(self, x):
-        return _lead(self.rest(x)) is None
+        return lead_of(self.rest(x)) is None
 
     def rest(self, vector):
         """The vector less that vector of the space that leaves 0 where the basis has its leading items."""
         _check_vector(vector, self._length)
-        return _rest(self._prime, self._rows, vector)
+        return tuple(rest_of(self._prime, self._basis, vector))
 
     def lies_in(self, other):
         """Whether all vectors of the space are in another one."""
         _check_alike(self, other)
-        return all([_lead(_rest(self._prime, other._rows, row)) is None for row in self._rows])
+        return all([lead_of(rest_of(self._prime, other._basis, row)) is None for _, row in self._basis])
 
     def __add__(self, other):
         _check_alike(self, other)
-        return Space(self._prime, self._length, self._rows + other._rows)
+        return _space(self._prime, self._length, widened(self._prime, self._basis, other.basis()))
 
     def __and__(self, other):
         _check_alike(self, other)
-        # A sum of multiples of our basis is in the other space exactly if the same sum of the rests is zeros.
-        rests = [_rest(self._prime, other._rows, row) for row in self._rows]
-        factors = _relations(self._prime, rests, self._length)
-        return Space(self._prime, self._length, joined(self._prime, factors, self._rows, self._length))
+        rows = self.basis()
+        found = relations(self._prime, outside(other._basis, rows), len(rows))
+        # Its lead is that of the first of our vectors in it, and at all leads of ours it has the factors as items.
+        return _space(self._prime, self._length, tuple([
+            (self._basis[first][0], mixed(self._prime, factors, rows, self._length)) for first, factors in found
+        ]))
 
     def image(self, matrix, width):
         """The space of the vectors to which a matrix of a width leads those of this space."""
         _check_size(width)
         if not is_matrix(matrix, self._length, width):
             raise InvalidMatrix(matrix)
-        return Space(self._prime, width, joined(self._prime, self._rows, matrix, width))
+        return _space(self._prime, width, reduced(self._prime, [
+            mixed(self._prime, row, matrix, width) for _, row in self._basis
+        ]))
 
     def back(self, matrix):
         """The space of the vectors that a matrix leads into this space."""
         _check_low(matrix, self._length)
-        rests = [_rest(self._prime, self._rows, row) for row in matrix]
-        return Space(self._prime, len(matrix), _relations(self._prime, rests, self._length))
+        return _space(self._prime, len(matrix), relations(self._prime, outside(self._basis, matrix), len(matrix)))
 
 
 def extension(inner, outer):
@@ -100,7 +100,7 @@ def extension(inner, outer):
     if not inner.lies_in(outer):
         raise NotWithin()
     # The rests of all vectors of the outer space are a space that meets the inner one in zeros only.
-    return Space(inner.prime, inner.length, [inner.rest(row) for row in outer.basis()]).basis()
+    return [row for _, row in reduced(inner.prime, [inner.rest(row) for row in outer.basis()])]
 
 
 def factors_for(prime, rows, vector):
@@ -108,12 +108,12 @@ def factors_for(prime, rows, vector):
     check_prime(prime)
     if not (is_list(vector) and len(vector) <= MOST and is_vector(vector, len(vector))):
         raise InvalidVector(vector)
-    width = len(vector)
-    _check_low(rows, width)
-    rest = _rest(prime, _reduced(prime, _marked(rows)), tuple(vector) + (0,) * len(rows))
-    if _lead(rest[:width]) is not None:
+    _check_low(rows, len(vector))
+    # The vector taken once and the rows with the opposite factors add up to zeros, so that its factor must be free.
+    settled = settled_factors(prime, list(zip(vector, *rows)), len(rows) + 1)
+    if 0 in settled:
         return None
-    return [-item % prime for item in rest[width:]]
+    return [settled[index][0] if index in settled else 0 for index in range(1, len(rows) + 1)]
 
 
 def inverse_of(prime, matrix):
@@ -123,10 +123,11 @@ def inverse_of(prime, matrix):
         raise InvalidMatrix(matrix)
     size = len(matrix)
     _check_low(matrix, size)
-    reduced = _reduced(prime, _marked(matrix))
-    if [row[:size] for row in reduced] != _units(size):
+    # What is done to the rows of the matrix is done to the unit vectors behind them, too.
+    found = reduced(prime, [tuple(row) + unit for row, unit in zip(matrix, _units(size))])
+    if [lead for lead, _ in found] != list(range(size)):
         return None
-    return [row[size:] for row in reduced]
+    return [row[size:] for _, row in found]
 
 
 def _check_size(size):
@@ -157,44 +158,15 @@ def _units(size):
     return [tuple([int(column == row) for column in range(size)]) for row in range(size)]
 
 
-def _marked(rows):
-    """Rows, each with a unit vector behind it: what is done to them is then kept there as factors."""
-    return [tuple(row) + unit for row, unit in zip(rows, _units(len(rows)))]
+def _space(prime, length, basis):
+    """The space with a reduced basis."""
+    return Space(prime, length, Reduced(basis))
 
 
-def _lead(row):
-    """The index of the first item other than 0, or None."""
-    for index, item in enumerate(row):
-        if item != 0:
-            return index
-    return None
-
-
-def _rest(prime, basis, vector):
-    """What a reduced basis leaves of a vector."""
-    factors = [-vector[_lead(row)] for row in basis]
-    return mixed(prime, [1, *factors], [vector, *basis], len(vector))
-
-
-def _widened(prime, basis, vector):
-    """A reduced basis, in any order, of the space to which a vector is added."""
-    rest = _rest(prime, basis, vector)
-    lead = _lead(rest)
-    if lead is None:
-        return basis
-    added = mixed(prime, [inverse(rest[lead], prime)], [rest], len(rest))
-    return [_rest(prime, [added], row) for row in basis] + [added]
-
-
-def _reduced(prime, vectors):
-    """The reduced basis of the space of all sums of multiples of vectors."""
-    basis = []
+def _reduced(prime, length, vectors):
+    """The reduced basis for a list of vectors of a length."""
+    if not is_list(vectors):
+        raise InvalidVector(vectors)
     for vector in vectors:
-        basis = _widened(prime, basis, vector)
-    # Of two vectors of a reduced basis, the one that begins further to the left is the greater one.
-    return sorted(basis, reverse=True)
-
-
-def _relations(prime, rows, width):
-    """A basis of the space of all factors with which rows of a width add up to zeros."""
-    return [row[width:] for row in _reduced(prime, _marked(rows)) if _lead(row) >= width]
+        _check_vector(vector, length)
+    return reduced(prime, vectors)
