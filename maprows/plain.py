@@ -101,11 +101,11 @@ def _check_place(pattern, place):
 
 
 def _marked(pattern, words):
-    """For each of some words of one place an integer, whose bit with the index of a bar is the mark on this bar."""
+    """For each of one or two words an integer, whose bit with the index of a bar is the mark on this bar."""
     check_pattern(pattern)
-    for word in words:
-        check_fitting(word, pattern)
-    if any([word.place != words[0].place for word in words]):
+    for told in words:
+        check_fitting(told, pattern)
+    if words[0].place != words[-1].place:
         raise UnlikePlaces()
     held = [_held(pattern, place) for place in range(len(pattern) + 1)]
     return [folded(word, lambda inner, parts: _marked_by_parts(inner, parts, pattern, held)) for word in words]

@@ -211,7 +211,6 @@ def _row_told(text):
     sizes = [WRITTEN.get(word) for word in words[::2]]
     pattern = "".join(words[1::2])
     try:
-        check_pattern(pattern)
         check_sizes(pattern, sizes)
         starts = [way(pattern, index)[0] for index in range(len(pattern))]
         maps = [_matrix_told(matrix, sizes[start]) for matrix, start in zip(matrices, starts)]

@@ -255,13 +255,14 @@ def _is_ground(token):
 
 
 def _is_too_deep(text, frames):
-    """Whether a text with these open brackets is to be refused, whatever stands in them."""
-    # A text does not show whether this package returned it. One that is longer than all that may be handed in was
-    # returned. Of the shorter ones, words that were made of words within the limits of calls have many brackets of
-    # right and left open, and many others in between, but no more of either than may be open together.
+    """Whether a text with these open brackets is refused, whatever stands in them."""
+    # What this package returned is read however many brackets are open, but a text does not show where it is from. One
+    # that is longer than what may be handed in must have been returned. What is made of words within the limits of
+    # calls has at times more than sixty brackets open, but not more than sixty of right and left, or of the others.
+    if len(text) > LONGEST:
+        return False
     grouping = len([opening for opening, _ in frames if opening == "("])
-    others = len(frames) - 1 - grouping
-    return len(text) <= LONGEST and max(grouping, others) > MOST_OPEN
+    return max(grouping, len(frames) - 1 - grouping) > MOST_OPEN
 
 
 def _closed(opening, terms):
