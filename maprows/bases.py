@@ -23,6 +23,9 @@ def widened(prime, basis, vectors):
     """The reduced basis of the space of a reduced basis and some vectors."""
     pairs = basis
     for vector in vectors:
+        if len(pairs) == len(vector):
+            # All vectors of this length are in the space already.
+            break
         rest = rest_of(prime, pairs, vector)
         lead = lead_of(rest)
         if lead is not None:
