@@ -10,8 +10,8 @@ from maprows.words import Word, check_fitting, folded, leads_along
 
 def marks(pattern, word):
     """The dimension, 0 or 1, of the value of a word in the row of each bar."""
-    marked = _marked(pattern, [word])[0]
-    return {bar: marked >> index & 1 for index, bar in enumerate(bars(pattern))}
+    bits = marked(pattern, [word])[0]
+    return {bar: bits >> index & 1 for index, bar in enumerate(bars(pattern))}
 
 
 def same(pattern, one, other):
@@ -26,13 +26,13 @@ def within(pattern, one, other):
 
 def parting(pattern, one, other):
     """The first bar in whose row the values of two words differ, or None."""
-    first, second = _marked(pattern, [one, other])
+    first, second = _marked_alike(pattern, one, other)
     return _first_bar(pattern, first ^ second)
 
 
 def breach(pattern, one, other):
     """The first bar in whose row the value of one word is not contained in that of another one, or None."""
-    first, second = _marked(pattern, [one, other])
+    first, second = _marked_alike(pattern, one, other)
     return _first_bar(pattern, first & (first ^ second))
 
 
@@ -56,15 +56,15 @@ def ends(pattern, place):
 
 def stair(pattern, word):
     """For each birth at the place of a word: the number of ends with which its bar has the mark 1."""
-    marked = marks(pattern, word)
+    told = marks(pattern, word)
     order = ends(pattern, word.place)
-    return tuple([sum([marked[birth, end] for end in order]) for birth in births(pattern, word.place)])
+    return tuple([sum([told[birth, end] for end in order]) for birth in births(pattern, word.place)])
 
 
 def plain(pattern, word):
     """The word that stands for all words of a place with the same stair."""
     steps = stair(pattern, word)
-    return _plain(word.place, steps, _by_births(pattern, word.place), _by_ends(pattern, word.place))
+    return _plain(word.place, steps, by_births(pattern, word.place), by_ends(pattern, word.place))
 
 
 def plain_count(pattern, place):
@@ -76,7 +76,7 @@ def plain_count(pattern, place):
 def plain_words(pattern, place):
     """All plain words of a place, in ascending order of their stairs."""
     stairs = _stairs(pattern, place)
-    lower, inner = _by_births(pattern, place), _by_ends(pattern, place)
+    lower, inner = by_births(pattern, place), by_ends(pattern, place)
     for steps in stairs:
         yield _plain(place, steps, lower, inner)
 
@@ -85,7 +85,7 @@ def nth_plain(pattern, place, number):
     """The plain word with a number, counted from 0, in ascending order of the stairs."""
     if not is_integer(number, 0, plain_count(pattern, place) - 1):
         raise InvalidNumber(number)
-    return _plain(place, _stairs(pattern, place)[number], _by_births(pattern, place), _by_ends(pattern, place))
+    return _plain(place, _stairs(pattern, place)[number], by_births(pattern, place), by_ends(pattern, place))
 
 
 def plain_number(pattern, word):
@@ -100,15 +100,21 @@ def _check_place(pattern, place):
         raise InvalidPlace(place)
 
 
-def _marked(pattern, words):
-    """For each of one or two words an integer, whose bit with the index of a bar is the mark on this bar."""
+def marked(pattern, words):
+    """For each of some words an integer, whose bit with the index of a bar is the mark on this bar."""
     check_pattern(pattern)
     for told in words:
         check_fitting(told, pattern)
-    if words[0].place != words[-1].place:
-        raise UnlikePlaces()
     held = [_held(pattern, place) for place in range(len(pattern) + 1)]
     return [folded(word, lambda inner, parts: _marked_by_parts(inner, parts, pattern, held)) for word in words]
+
+
+def _marked_alike(pattern, one, other):
+    """The integers of two words of the same place."""
+    bits = marked(pattern, [one, other])
+    if one.place != other.place:
+        raise UnlikePlaces()
+    return bits
 
 
 def _held(pattern, place):
@@ -134,10 +140,10 @@ def _marked_by_parts(word, parts, pattern, held):
     return here & (parts[0] | (here ^ there))
 
 
-def _first_bar(pattern, marked):
+def _first_bar(pattern, bits):
     """The first bar whose bit is in an integer, or None."""
     for index, bar in enumerate(bars(pattern)):
-        if marked >> index & 1 == 1:
+        if bits >> index & 1 == 1:
             return bar
     return None
 
@@ -158,19 +164,19 @@ def _plain(place, steps, lower, inner):
     # Where the stair goes down there is a corner: a number of births, each of them with the same number of ends.
     for many, (step, below) in enumerate(zip(steps, steps[1:] + (0,)), start=1):
         if step > below:
-            corner = _met(lower[many], inner[step])
+            corner = met(lower[many], inner[step])
             word = corner if word is None else word + corner
     return Word.none(place) if word is None else word
 
 
-def _met(one, other):
+def met(one, other):
     """The meet of two words of a place, where one that means all vectors is left out."""
     if one.sign == "1":
         return other
     return one if other.sign == "1" else one & other
 
 
-def _by_births(pattern, place):
+def by_births(pattern, place):
     """For each number the word that has the mark 1 on the bars whose births are so many from the bottom."""
     words = _ground(0)
     for newer in range(1, place + 1):
@@ -178,7 +184,7 @@ def _by_births(pattern, place):
     return words
 
 
-def _by_ends(pattern, place):
+def by_ends(pattern, place):
     """For each number the word that has the mark 1 on the bars whose ends are so many from the bottom."""
     words = _ground(len(pattern))
     for newer in range(len(pattern) - 1, place - 1, -1):

@@ -1,8 +1,8 @@
 """Patterns, bars, and rows of linear maps."""
 
 from maprows.errors import (
-    InvalidBar, InvalidMaps, InvalidMatrix, InvalidNumbers, InvalidPattern, InvalidPlace, InvalidSizes, InvalidText,
-    RowError, TooLarge, UnlikeRows,
+    InvalidBar, InvalidMaps, InvalidMatrix, InvalidNumbers, InvalidPattern, InvalidPlace, InvalidSize, InvalidSizes,
+    InvalidText, RowError, TooLarge, UnlikeRows,
 )
 from maprows.rests import check_prime, exchanged, is_integer, is_list, is_matrix
 
@@ -51,6 +51,12 @@ def check_bar(pattern, bar):
         raise InvalidBar(bar)
 
 
+def check_size(size):
+    """Raise InvalidSize unless a value is a size of a place."""
+    if not is_integer(size, 0, MOST):
+        raise InvalidSize(size)
+
+
 def check_sizes(pattern, sizes):
     """Raise InvalidSizes unless a value is a list of a size for each place of a pattern."""
     if not (is_list(sizes) and len(sizes) == len(pattern) + 1 and all([is_integer(size, 0, MOST) for size in sizes])):
@@ -70,6 +76,25 @@ def check_low(sizes):
     for size in sizes:
         if size > MOST:
             raise TooLarge(size)
+
+
+def low_sizes(pattern, numbers):
+    """The sizes of the places of the rows with some numbers; raises unless these are numbers of some row."""
+    check_numbers(pattern, numbers)
+    sizes = [
+        sum([number for (first, last), number in numbers.items() if first <= place <= last])
+        for place in range(len(pattern) + 1)
+    ]
+    check_low(sizes)
+    return sizes
+
+
+def check_alike(one, other):
+    """Raise UnlikeRows unless two values are rows with the same pattern and prime."""
+    if not (isinstance(one, Row) and isinstance(other, Row)):
+        raise UnlikeRows()
+    if one.pattern != other.pattern or one.prime != other.prime:
+        raise UnlikeRows()
 
 
 def way(pattern, index):
@@ -127,12 +152,12 @@ class Row:
         )
 
     def __add__(self, other):
-        _check_alike(self, other)
+        check_alike(self, other)
         sizes = [size + more for size, more in zip(self._sizes, other._sizes)]
         check_low(sizes)
         goals = [way(self._pattern, index)[1] for index in range(len(self._pattern))]
         return Row(self._pattern, self._prime, sizes, [
-            _beside(matrix, more, self._sizes[goal], other._sizes[goal])
+            beside(matrix, more, self._sizes[goal], other._sizes[goal])
             for matrix, more, goal in zip(self._maps, other._maps, goals)
         ])
 
@@ -174,9 +199,7 @@ def row_with(pattern, prime, numbers):
     """The row of rows of bars beside one another, each bar as often as numbers tell."""
     check_pattern(pattern)
     check_prime(prime)
-    check_numbers(pattern, numbers)
-    sizes = sizes_with(pattern, numbers)
-    check_low(sizes)
+    sizes = low_sizes(pattern, numbers)
     told = [bar for bar in bars(pattern) for _ in range(numbers.get(bar, 0))]
     # Each place has an item in its vectors for each of the told bars that hold it, in their order.
     held = [
@@ -184,14 +207,6 @@ def row_with(pattern, prime, numbers):
     ]
     ways = [way(pattern, index) for index in range(len(pattern))]
     return Row(pattern, prime, sizes, [_same_items(held[start], held[goal]) for start, goal in ways])
-
-
-def sizes_with(pattern, numbers):
-    """The sizes of the places of the rows with some numbers."""
-    return [
-        sum([number for (first, last), number in numbers.items() if first <= place <= last])
-        for place in range(len(pattern) + 1)
-    ]
 
 
 def read_row(text):
@@ -240,14 +255,7 @@ def _check_maps(pattern, sizes, maps):
             raise InvalidMatrix(matrix)
 
 
-def _check_alike(one, other):
-    if not (isinstance(one, Row) and isinstance(other, Row)):
-        raise UnlikeRows()
-    if one.pattern != other.pattern or one.prime != other.prime:
-        raise UnlikeRows()
-
-
-def _beside(one, other, width, more):
+def beside(one, other, width, more):
     """The matrix that leads the vectors of a matrix of a width, and those of one of another width behind them."""
     return [tuple(row) + (0,) * more for row in one] + [(0,) * width + tuple(row) for row in other]
 

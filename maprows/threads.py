@@ -36,6 +36,11 @@ def is_threads(row, told):
     return all([_is_apart(row, place, told) for place in range(len(row))])
 
 
+def vectors_at(told, place):
+    """The vectors that threads, told with their bars, have at a place."""
+    return [thread[place - first] for (first, last), thread in told if first <= place <= last]
+
+
 def _led_on(row, index, alive):
     """The threads that end at an arrow `>`, and those that are alive behind it."""
     width = row.sizes[index + 1]
@@ -107,5 +112,5 @@ def _agrees(row, index, first, thread):
 
 def _is_apart(row, place, told):
     """Whether the vectors of threads at a place are a basis of the space of all vectors of the place."""
-    there = [thread[place - first] for (first, last), thread in told if first <= place <= last]
+    there = vectors_at(told, place)
     return len(there) == row.sizes[place] and inverse_of(row.prime, there) is not None

@@ -5,7 +5,7 @@ import unittest
 
 from maprows.errors import RowError
 from maprows.rows import Row
-from maprows.spaces import Space
+from maprows.spaces import Space, inverse_of
 from maprows.words import Word
 
 PRIMES = (2, 3, 5, 7, 11, 13)
@@ -205,6 +205,35 @@ def some_rows(seed, many, arrows, most, primes=PRIMES):
         sizes = [next(numbers) % (most + 1) for _ in range(k + 1)]
         ranks = None if at % 3 == 0 else next(numbers) % (most + 1)
         yield some_row(numbers, pattern, primes[next(numbers) % len(primes)], sizes, ranks)
+
+
+def some_numbers(values, k, most=6):
+    """Numbers for a pattern with k arrows with which no place is too large."""
+    told, sizes = {}, [0] * (k + 1)
+    bars = all_bars(k)
+    for _ in range(next(values) % (3 * k + 4)):
+        first, last = bars[next(values) % len(bars)]
+        if max(sizes[first:last + 1]) < most:
+            told[first, last] = told.get((first, last), 0) + 1
+            sizes = [size + (first <= place <= last) for place, size in enumerate(sizes)]
+    return told
+
+
+def in_other_coordinates(values, row):
+    """The row with other vectors at each place: all that is led is led likewise."""
+    bases = []
+    for size in row.sizes:
+        basis = some_matrix(values, size, size)
+        while inverse_of(row.prime, basis) is None:
+            basis = some_matrix(values, size, size)
+        bases.append(basis)
+    maps = []
+    for index in range(len(row.pattern)):
+        start, goal = ends_of(row.pattern, index)
+        back, size = inverse_of(row.prime, bases[start]), row.sizes[goal]
+        led = [lead(row.prime, vector, row.matrix(index), size) for vector in back]
+        maps.append([lead(row.prime, vector, bases[goal], size) for vector in led])
+    return Row(row.pattern, row.prime, row.sizes, maps)
 
 
 def some_word(numbers, place, leaves, steps, most=6):

@@ -81,6 +81,45 @@ PLAIN = """
     raises InvalidNumber(3)
 """
 
+CLAIMS = """
+    >>> from maprows.claims import Claim, bar_claim, holds, likewise, refuting
+    >>> from maprows.rows import Row
+    >>> from maprows.words import Word, carried
+    >>> first, second, both = Word.whole(0).right(), Word.whole(1).right(), carried(Word.whole(0), 2)
+    >>> sylvester = Claim([(1, both), (1, Word.whole(1)), (-1, first), (-1, second)])
+    >>> [holds(">>", sylvester), refuting(">>", Claim([(1, both), (-1, first)])), sylvester.on_bars(">>")[(1, 1)], (-sylvester).total(">>", {(1, 1): 2, (0, 0): 3})]
+    [True, (0, 1), 1, -2]
+    >>> row = Row(">>", 2, [1, 2, 1], [[(1, 0)], [(0,), (1,)]])
+    >>> [sylvester.on(row), bar_claim(">>", (0, 1)).on(row), bar_claim(">>", (0, 2)).on(row), likewise(">>", sylvester * 2, sylvester + sylvester)]
+    [0, 1, 0, None]
+    >>> Claim([(1, "1@0")])
+    raises InvalidTerms((1, '1@0'))
+"""
+
+RANKS = """
+    >>> from maprows.ranks import bars_of, clash, is_rank_table, rank_table, row_of_table
+    >>> from maprows.rows import Row
+    >>> row = Row(">>", 3, (1, 2, 1), [[(1, 1)], [(1,), (2,)]])
+    >>> [rank_table(row), {bar: number for bar, number in bars_of(rank_table(row)).items() if number > 0}]
+    [[[1, 1, 0], [2, 1], [1]], {(0, 1): 1, (1, 2): 1}]
+    >>> [clash([[1, 1, 1], [1, 0], [1]]), is_rank_table([[1, 1, 0], [1, 1], [1]]), clash([[1, 1, 0], [1, 1], [1]]), rank_table(row_of_table(5, [[2, 1], [3]]))]
+    [(1, 2), False, (1, 1), [[2, 1], [3]]]
+    >>> bars_of([[1, 1, 0], [1, 1], [1]])
+    raises NegativeBar((1, 1))
+"""
+
+ALIKE = """
+    >>> from maprows.alike import alike_count, all_numbers, carry, is_carry, keepers, leads_into, parting_word, row_count
+    >>> from maprows.rows import Row
+    >>> one, other = Row(">", 5, (1, 2), [[(1, 2)]]), Row(">", 5, (1, 2), [[(0, 3)]])
+    >>> [is_carry(one, other, carry(one, other)), parting_word(one, other), carry(one, Row(">", 5, (1, 2), [[(0, 0)]])), is_carry(one, other, [[(1,)], [(0, 3), (0, 0)]])]
+    [True, None, None, False]
+    >>> [leads_into(">", (0, 1), (0, 0)), leads_into(">", (0, 0), (0, 1)), leads_into(">", (1, 1), (0, 1)), leads_into(">", (0, 0), (1, 1))]
+    [True, False, True, False]
+    >>> [keepers(">", 2, {(0, 1): 1, (1, 1): 1}), alike_count(">", 2, {(0, 1): 1, (1, 1): 1}), row_count(">", 2, (1, 2)), len(list(all_numbers(">", (1, 2))))]
+    [2, 3, 4, 2]
+"""
+
 
 class Examples(RowTest):
 
@@ -101,6 +140,15 @@ class Examples(RowTest):
 
     def test_plain(self):
         self.assertEqual(check_examples(self, PLAIN), 7)
+
+    def test_claims(self):
+        self.assertEqual(check_examples(self, CLAIMS), 9)
+
+    def test_ranks(self):
+        self.assertEqual(check_examples(self, RANKS), 6)
+
+    def test_alike(self):
+        self.assertEqual(check_examples(self, ALIKE), 6)
 
 
 if __name__ == "__main__":

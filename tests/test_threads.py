@@ -4,11 +4,11 @@ import itertools
 import unittest
 
 from helps import (
-    GREAT, PRIMES, RowTest, all_bars, all_matrices, all_patterns, ends_of, lead, sequence, some_matrix, some_row,
-    some_rows, things, wrong_bars,
+    GREAT, PRIMES, RowTest, all_bars, all_matrices, all_patterns, ends_of, in_other_coordinates, lead, sequence,
+    some_numbers, some_row, some_rows, things, wrong_bars,
 )
 from maprows.rows import Row, bar_row, row_with
-from maprows.spaces import Space, inverse_of
+from maprows.spaces import Space
 from maprows.threads import is_threads, numbers, threads
 
 
@@ -36,35 +36,6 @@ def counted(row, told):
     for bar, _ in told:
         counts[bar] += 1
     return counts
-
-
-def some_numbers(values, k, most=6):
-    """Numbers for a pattern with k arrows with which no place is too large."""
-    told, sizes = {}, [0] * (k + 1)
-    bars = all_bars(k)
-    for _ in range(next(values) % (3 * k + 4)):
-        first, last = bars[next(values) % len(bars)]
-        if max(sizes[first:last + 1]) < most:
-            told[first, last] = told.get((first, last), 0) + 1
-            sizes = [size + (first <= place <= last) for place, size in enumerate(sizes)]
-    return told
-
-
-def in_other_coordinates(values, row):
-    """The row with other vectors at each place: all that is led is led likewise."""
-    bases = []
-    for size in row.sizes:
-        basis = some_matrix(values, size, size)
-        while inverse_of(row.prime, basis) is None:
-            basis = some_matrix(values, size, size)
-        bases.append(basis)
-    maps = []
-    for index in range(len(row.pattern)):
-        start, goal = ends_of(row.pattern, index)
-        back, size = inverse_of(row.prime, bases[start]), row.sizes[goal]
-        led = [lead(row.prime, vector, row.matrix(index), size) for vector in back]
-        maps.append([lead(row.prime, vector, bases[goal], size) for vector in led])
-    return Row(row.pattern, row.prime, row.sizes, maps)
 
 
 class Threads(RowTest):
