@@ -3,9 +3,12 @@
 import itertools
 import unittest
 
+from maprows.claims import Claim
+from maprows.consoles import Console
 from maprows.errors import RowError
 from maprows.rows import Row
 from maprows.spaces import Space, inverse_of
+from maprows.streams import Stream
 from maprows.words import Word
 
 PRIMES = (2, 3, 5, 7, 11, 13)
@@ -71,6 +74,7 @@ def things():
     """Values of the kinds that are neither integers nor lists."""
     word = Word.none(1) + Word.whole(0).right()
     objects = [Space(5, 2, [(1, 2)]), Row(">", 5, [1, 2], [[(1, 2)]]), Word.whole(0), word]
+    objects += [Claim([(1, word)]), Stream(2, 1), Console()]
     return [None, True, False, "", "2", "123", {}, {0: 1}, {"a": [1]}, {(0, 1): 2}] + objects
 
 
@@ -169,6 +173,15 @@ def wrong_size_lists(k):
     for item in things() + [-1, 7, GREAT, -GREAT, [1], (1,), "1"]:
         wrong += [[1] * k + [item], (item,) + (1,) * k]
     return wrong
+
+
+def wrong_arrows():
+    return things() + [0, 1, GREAT, "", ">>", "<>", "<<", " >", "> ", "-", "=", ">=", "right", [">"], (">",), ["<"], []]
+
+
+def wrong_place_sizes():
+    """What is no size of a place."""
+    return things() + [-1, 7, 12, GREAT, -GREAT, [], [3], (3,), "1"]
 
 
 def all_patterns(most, least=0):

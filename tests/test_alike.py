@@ -8,7 +8,6 @@ from helps import (
     sequence, some_numbers, some_row, some_rows, things, units, wrong_bars, wrong_matrices, wrong_patterns,
 )
 from maprows.alike import carry, is_carry, leads_into, parting_word
-from maprows.claims import Claim
 from maprows.errors import InvalidBar, InvalidPattern, UnlikeRows
 from maprows.rows import Row, bar_row, row_with
 from maprows.spaces import inverse_of
@@ -171,7 +170,7 @@ class IsCarry(RowTest):
     def test_what_is_no_carry(self):
         one, other = Row(">", 5, (1, 2), [[(1, 2)]]), Row(">", 5, (1, 2), [[(0, 3)]])
         good = carry(one, other)
-        wrong = things() + [Claim([]), one.maps(), 0, 1, GREAT, [], (), good[:1], good + [[(1,)]], [good], good[::-1]]
+        wrong = things() + [one.maps(), 0, 1, GREAT, [], (), good[:1], good + [[(1,)]], [good], good[::-1]]
         wrong += [{0: good[0], 1: good[1]}, [[(0,)], good[1]], [good[0], [(0, 0), (0, 0)]], [[(2,)], good[1]]]
         wrong += [[good[0], [(1, 0), (0, 1)]], [[(5,)], good[1]], [good[0], [(0, 3), (0, 1)]]]
         for matrix in wrong_matrices(1, 1):

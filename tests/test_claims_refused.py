@@ -12,12 +12,12 @@ WORD = Word.whole(0)
 
 
 def no_lists():
-    return things() + [Claim([(1, WORD)]), 0, 1, GREAT, "[]", {(1, 0): WORD}]
+    return things() + [0, 1, GREAT, "[]", {(1, 0): WORD}]
 
 
 def no_terms():
     """What is no tuple of an integer and a word."""
-    wrong = things() + [Claim([]), 0, 1, GREAT, [], (), [1, WORD], (1,), (WORD,), (1, WORD, 0), (1, WORD, WORD)]
+    wrong = things() + [0, 1, GREAT, [], (), [1, WORD], (1,), (WORD,), (1, WORD, 0), (1, WORD, WORD)]
     wrong += [(WORD, 1), (1, "1@0"), (1, (WORD,)), ((1, WORD),), [(1, WORD)], (1, 1), (WORD, WORD), {1: WORD}]
     wrong += [(factor, WORD) for factor in things() + [[1], (1,), "1"]]
     return wrong + [(1, word) for word in things() if not isinstance(word, Word)] + [(True, WORD), (False, WORD)]

@@ -120,6 +120,56 @@ ALIKE = """
     [2, 3, 4, 2]
 """
 
+GROWING = """
+    >>> from maprows.growing import grown, numbers_after, ways_after
+    >>> from maprows.rows import Row
+    >>> row = grown(Row(">", 3, (1, 2), [[(1, 2)]]), "<", 1, [(1, 1)])
+    >>> [row.pattern, row.sizes, row.maps()]
+    ['><', (1, 2, 1), [[(1, 2)], [(1, 1)]]]
+    >>> found = list(numbers_after(">", {(0, 1): 1, (1, 1): 1}, ">", 1))
+    >>> [[bar for bar, number in after.items() if number > 0] for after in found]
+    [[(0, 2), (1, 1)], [(0, 1), (1, 2)], [(0, 1), (1, 1), (2, 2)]]
+    >>> [ways_after(">", 3, {(0, 1): 1, (1, 1): 1}, ">", after) for after in found]
+    [6, 2, 1]
+    >>> grown(row, "-", 1, [])
+    raises InvalidArrow('-')
+"""
+
+ENDS = """
+    >>> from maprows.ends import chain, leads_to, related, relation, relation_numbers
+    >>> from maprows.rows import Row
+    >>> row = Row("><", 5, [2, 1, 2], [[(1,), (2,)], [(1,), (0,)]])
+    >>> [relation(row).basis(), related(row, (1, 0), (1, 3)), chain(row, (1, 1), (3, 0)), chain(row, (1, 0), (0, 1))]
+    [[(1, 0, 1, 0), (0, 1, 2, 0), (0, 0, 0, 1)], True, [(1, 1), (3,), (3, 0)], None]
+    >>> other, space = leads_to(row, (3, 1))
+    >>> [other[0], space.basis(), relation_numbers("><", {(0, 2): 1, (0, 0): 1, (2, 2): 1})]
+    [0, [(0, 1)], (1, 1, 1)]
+"""
+
+STREAMS = """
+    >>> from maprows.streams import Stream
+    >>> stream = Stream(5, 2)
+    >>> stream.grow(">", 1, [(1,), (2,)])
+    >>> stream.grow("<", 1, [(3,)])
+    >>> [stream.row().text(), stream.lasting(), stream.numbers()[(0, 0)], len(stream), len(list(stream.outlook("<", 1)))]
+    ['5: 2 > 1 < 1; 1, 2; 3', [0], 1, 3, 2]
+    >>> [stream.tried(lambda held: [held.cut(1), held.row().text(), held.lasting()]), stream.undoable, stream.redoable]
+    [[None, '5: 1 < 1; 3', [0]], 2, 0]
+    >>> stream.redo()
+    raises NothingToRedo()
+"""
+
+CONSOLES = """
+    >>> from maprows.consoles import Console
+    >>> console = Console()
+    >>> console.run(["row f 5: 2 > 1; 1, 2", "turned f g", "beside f f h", "names", "show g", "bars h"])
+    ['ok', 'ok', 'ok', 'f g h', '5: 1 < 2; 1, 2', '0-0*2 0-1*2']
+    >>> console.run(["dim h right(1@0)", "same > right(1@0) = 1@1", "within > right(1@0) <= 1@1", "plain > right(1@0) + 0@1", "beside f g k", "row f 5: 1"])
+    ['2', '1-1', 'yes', 'right(1@0)', '! UnlikeRows', '! NameTaken']
+    >>> console("dim h right(1@1")
+    raises InvalidLine('dim h right(1@1')
+"""
+
 
 class Examples(RowTest):
 
@@ -149,6 +199,18 @@ class Examples(RowTest):
 
     def test_alike(self):
         self.assertEqual(check_examples(self, ALIKE), 6)
+
+    def test_growing(self):
+        self.assertEqual(check_examples(self, GROWING), 8)
+
+    def test_ends(self):
+        self.assertEqual(check_examples(self, ENDS), 6)
+
+    def test_streams(self):
+        self.assertEqual(check_examples(self, STREAMS), 7)
+
+    def test_consoles(self):
+        self.assertEqual(check_examples(self, CONSOLES), 5)
 
 
 if __name__ == "__main__":

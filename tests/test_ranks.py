@@ -7,7 +7,6 @@ from helps import (
     GREAT, PRIMES, RowTest, all_bars, all_matrices, all_patterns, all_vectors, ends_of, in_other_coordinates, lead,
     sequence, some_numbers, some_row, things, wrong_primes,
 )
-from maprows.claims import Claim
 from maprows.errors import InvalidPrime, InvalidTable, NegativeBar, NotOneWay
 from maprows.ranks import bars_of, clash, is_rank_table, rank_table, row_of_table
 from maprows.rows import Row, bar_row, row_with
@@ -218,7 +217,7 @@ class Numbers(RowTest):
 
 
 def wrong_tables():
-    wrong = things() + [Claim([]), 0, 1, GREAT, [], (), [[]], ((),), [1], (1,), [[1, 1]], [[1], [1, 1]], [[1], [1]]]
+    wrong = things() + [0, 1, GREAT, [], (), [[]], ((),), [1], (1,), [[1, 1]], [[1], [1, 1]], [[1], [1]]]
     wrong += [[[1, 1]] * 2, [[1, 1], [1], []], [[], [1]], [[1, 1, 1], [1], [1]], [[[1]]], {0: [1]}, [{0: 1}], ["1"]]
     wrong += [[[0] * n for n in range(8, 0, -1)], [[0] * n for n in range(7, 1, -1)], [[0] * 7] * 7, [[-1]], [[7]]]
     for item in things() + [-1, 7, GREAT, -GREAT, [1], (1,), "1"]:
